@@ -1,0 +1,83 @@
+"""The rules of LANGUAGE.md that can be seen in a file at once: sizes, characters, imports, names."""
+
+import ast
+import pathlib
+import re
+import unittest
+
+PACKAGE = pathlib.Path(__file__).resolve().parent.parent / "tripmeans"
+FILES = sorted(PACKAGE.glob("*.py"))
+LIBRARY = {"heapq": {"heappush", "heappop"}, "math": {"gcd", "lcm"}, "itertools": {"product", "combinations"}}
+BARRED = {"register", "mro", "elements", "open", "input", "law", "eval", "exec", "id", "type", "vars", "dir", "map",
+          "filter", "hash", "round", "object", "format", "next", "iter", "slice", "float", "chr", "compile", "sys"}
+
+
+class Language(unittest.TestCase):
+    def each(self):
+        for path in FILES:
+            text = path.read_text(encoding="utf-8")
+            yield path.name, text, ast.parse(text)
+
+    def test_the_folder_has_files_alone(self):
+        self.assertIn("__init__.py", [path.name for path in FILES])
+        others = [path.name for path in PACKAGE.iterdir() if path.suffix != ".py" and path.name != "__pycache__"]
+        self.assertEqual(others, [])
+
+    def test_sizes(self):
+        for name, text, tree in self.each():
+            lines = text.split("\n")
+            self.assertLessEqual(len(lines), 399, name)
+            self.assertLessEqual(max(map(len, lines)), 120, name)
+            for node in ast.walk(tree):
+                if isinstance(node, ast.FunctionDef):
+                    self.assertLessEqual(node.end_lineno - node.lineno + 1, 40, node.name)
+
+    def test_characters(self):
+        for name, text, _ in self.each():
+            self.assertEqual([c for c in text if c != "\n" and not " " <= c <= "~"], [], name)
+            self.assertIsNone(re.search(r"_wall|_WallAttr", text), name)
+
+    def test_imports(self):
+        for name, _, tree in self.each():
+            for node in ast.walk(tree):
+                self.assertNotIsInstance(node, ast.Import, name)
+                if isinstance(node, ast.ImportFrom):
+                    self.assertEqual(node.level, 0)
+                    names = {alias.name for alias in node.names}
+                    inside = node.module.startswith("tripmeans.")
+                    self.assertTrue(inside or names <= LIBRARY.get(node.module, set()), (name, node.module))
+
+    def test_no_two_files_import_each_other(self):
+        needs = {}
+        for name, _, tree in self.each():
+            found = [node.module for node in ast.walk(tree) if isinstance(node, ast.ImportFrom)]
+            needs["tripmeans." + name[:-3]] = [module for module in found if module.startswith("tripmeans.")]
+        while needs:
+            free = [name for name in needs if not any(other in needs for other in needs[name])]
+            self.assertTrue(free, needs)
+            needs = {name: needs[name] for name in needs if name not in free}
+
+    def test_statements_and_values(self):
+        barred = (ast.Global, ast.AsyncFunctionDef, ast.Await, ast.Set, ast.Div, ast.GeneratorExp)
+        for name, _, tree in self.each():
+            for node in ast.walk(tree):
+                self.assertNotIsInstance(node, barred, name)
+                self.assertFalse(isinstance(node, ast.Constant) and isinstance(node.value, (float, complex)), name)
+
+    def test_names(self):
+        for name, _, tree in self.each():
+            for node in ast.walk(tree):
+                if isinstance(node, (ast.Name, ast.Attribute, ast.arg, ast.FunctionDef)):
+                    word = getattr(node, "id", None) or getattr(node, "attr", None) or getattr(node, "arg", None)
+                    self.assertNotIn(word or node.name, BARRED, name)
+
+    def test_every_function_says_what_it_does(self):
+        for name, _, tree in self.each():
+            self.assertIsNotNone(ast.get_docstring(tree), name)
+            for node in ast.walk(tree):
+                if isinstance(node, (ast.FunctionDef, ast.ClassDef)) and node.name != "__init__":
+                    self.assertIsNotNone(ast.get_docstring(node), (name, node.name))
+
+
+if __name__ == "__main__":
+    unittest.main()

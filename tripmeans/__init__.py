@@ -1,0 +1,1 @@
+"""Tripmeans: programs of sums whose registers trip at a bound that nobody tells."""
