@@ -2,6 +2,8 @@
 
 import random
 
+from tripmeans.errors import TripError
+
 # One value of each sort that the document calls "any value", and some that are nearly something.
 ANY_VALUES = (
     None, True, False, 0, 1, -1, 2, 8, 9, 10 ** 99, -10 ** 99, "", "a", "in", "point", "weights", " ~\n", "x" * 1000,
@@ -9,6 +11,16 @@ ANY_VALUES = (
     ("weights", 1, (), (), 1), ("none", (), (), 1), ("if", "a", "b", (), ()), ((((((((((),),),),),),),),),),
     [], [1, 2], [(1, 2)], ["both", 1], {}, {"a": 1}, {1: (2, 3)}, ([],), ({},), ([1], {2: 3}, "a", None), (0,) * 3000,
 )
+
+
+def caught(error, call, *given):
+    """The one value that the error of a call carries; None if it carries none."""
+    try:
+        call(*given)
+    except TripError as e:
+        assert type(e) is error, e
+        return next(iter(vars(e).values()), None)
+    raise AssertionError(f"no {error.__name__}")
 
 
 def total(row, point):
@@ -136,15 +148,16 @@ def question(rand):
 
 
 class Maker:
-    """Makes programs at will, right by their making."""
+    """Makes programs at will, right by their making, with kinds, factors and numbers up to those that are told."""
 
-    def __init__(self, seed):
+    def __init__(self, seed, wide=30, far=12, ins=6, most=24):
         self.rand = random.Random(seed)
+        self.wide, self.far, self.ins, self.most = wide, far, ins, most
         self.left = 0
         self.many = 0
 
     def kind(self):
-        return (self.rand.choice(("both", "up")), self.rand.randint(1, 30))
+        return (self.rand.choice(("both", "up")), self.rand.randint(1, self.wide))
 
     def name(self, known):
         while True:
@@ -154,12 +167,12 @@ class Maker:
 
     def program(self):
         ins = {}
-        for _ in range(self.rand.randint(1, 6)):
+        for _ in range(self.rand.randint(1, self.ins)):
             ins[self.name(ins)] = self.kind()
         pairs = [(a, b) for a in ins for b in ins if a != b]
         facts = tuple(sorted(self.rand.sample(pairs, min(len(pairs), self.rand.randint(0, 6)))))
-        self.left = self.rand.randint(0, 24)
-        body, known = self.block(dict(ins), {}, 24)
+        self.left = self.rand.randint(0, self.most)
+        body, known = self.block(dict(ins), {}, self.most)
         outs = tuple(self.rand.choice(sorted(known)) for _ in range(self.rand.randint(1, 4)))
         return (tuple(ins.items()), facts, body, outs)
 
@@ -191,5 +204,5 @@ class Maker:
         word = self.rand.choice(("plus", "minus", "times", "least", "greatest"))
         one, other = self.rand.choice(sorted(known)), self.rand.choice(sorted(known))
         if word == "times":
-            one = self.rand.randint(-12, 12)
+            one = self.rand.randint(-self.far, self.far)
         return (word, name, kind, one, other)

@@ -2,23 +2,13 @@
 
 import unittest
 
-from support import ANY_VALUES
+from support import ANY_VALUES, caught
 from tripmeans import walls as module
 from tripmeans.errors import BadNumber, BadWall, BadWalls, NotRoomy
 from tripmeans.walls import are_borders, is_border
 
 FAR = 10 ** 6
 NO_WIDTHS = [x for x in ANY_VALUES if type(x) is not int or not 2 <= x <= 8]
-
-
-def caught(error, call, *given):
-    """The value that the error of a call carries."""
-    try:
-        call(*given)
-    except error as e:
-        assert type(e) is error
-        return e.thing
-    raise AssertionError(f"no {error.__name__}")
 
 
 class Borders(unittest.TestCase):

@@ -3,11 +3,14 @@
 import copy
 import inspect
 import random
+import sys
 import unittest
 
 from support import ANY_VALUES, Maker, question
-from tripmeans import programs, texts, walls
-from tripmeans.errors import BadFacts, BadNumber, BadText, TripError
+from tripmeans import programs, refining, runs, single, texts, walls, ways
+from tripmeans.errors import (BadBound, BadFacts, BadForms, BadGiven, BadNumber, BadProgram, BadText, TripError,
+                              Unlike)
+from words import changed_program
 
 PARAMETERS = {
     walls: {
@@ -24,10 +27,29 @@ PARAMETERS = {
         "statement_at": ["program", "number"], "known_at": ["program", "number"], "known_behind": ["program"],
     },
     texts: {"program_text": ["program"], "read_program": ["text"]},
+    runs: {"run": ["program", "bound", "given"], "trace": ["program", "bound", "given"]},
+    ways: {
+        "ways_of": ["program"], "way_taken": ["program", "bound", "given"], "room_borders": ["program", "number"],
+        "bare_borders": ["program", "number"],
+    },
+    single: {
+        "is_single": ["program"], "forms_of": ["program"], "plain_room": ["program"],
+        "judge_never_more": ["one", "other"], "never_more_holds": ["one", "other", "thing"],
+        "judge_mean": ["held", "item"], "mean_holds": ["held", "item", "thing"],
+    },
+    refining: {
+        "checks_of": ["one", "other"], "does_refine": ["one", "other"], "judge_refines": ["one", "other"],
+        "refines_holds": ["one", "other", "thing"], "judge_alike": ["one", "other"],
+        "alike_holds": ["one", "other", "thing"],
+    },
 }
 # Names of all functions that tell whether something is so.
 TELLING = ("are_borders", "is_border", "follows_holds", "does_follow", "empty_holds", "is_roomy", "is_kind", "is_name",
-           "is_program", "is_kind_within", "is_straight")
+           "is_program", "is_kind_within", "is_straight", "is_single", "never_more_holds", "mean_holds", "does_refine",
+           "refines_holds", "alike_holds")
+# Names of those whose results hold bools, and not only integers, strings and tuples.
+WITH_BOOLS = ("ways_of",)
+SUM = ((("a", ("both", 1)), ("b", ("up", 2))), (), (("plus", "c", ("both", 2), "a", "b"),), ("c",))
 
 
 def answer(call, *given, **named):
@@ -61,11 +83,42 @@ def calls():
         yield programs.is_kind_within, (program[0][0][1], ("both", k))
         yield texts.program_text, (program,)
         yield texts.read_program, (texts.program_text(program)[:rand.randint(5, 400)],)
+        if k % 4 == 0:
+            small = Maker(k, wide=3, far=2, ins=3, most=5).program()
+            yield from calls_of_programs(rand, small, changed_program(rand, small))
     for module, functions in PARAMETERS.items():
         for name, parameters in functions.items():
             for thing in ANY_VALUES:
                 yield getattr(module, name), (thing,) * len(parameters)
                 yield getattr(module, name), (2, (), (), (1, 2), thing)[-len(parameters):]
+                for given in ((SUM, SUM, thing), (SUM, thing, thing), (SUM, 2, (1, thing))):
+                    yield getattr(module, name), (*given, thing, thing)[:len(parameters)]
+
+
+def calls_of_programs(rand, one, other):
+    """Functions with two programs that are nearly the same."""
+    bound = rand.randint(1, 3)
+    given = tuple(rand.randint(0, bound) for _ in one[0])
+    held = (((1, 1), rand.randint(1, 3)), ((1, rand.randint(-3, 3)), 1))
+    item = ((rand.randint(-3, 3), 1), 2)
+    yield runs.run, (one, bound, given)
+    yield runs.trace, (one, bound, given)
+    yield ways.ways_of, (one,)
+    yield ways.way_taken, (one, bound, given)
+    yield ways.room_borders, (one, rand.randint(0, 2))
+    yield ways.bare_borders, (one, rand.randint(0, 2))
+    for program in (one, (*one[:2], (), one[0][0][:1])):
+        yield single.is_single, (program,)
+        yield single.forms_of, (program,)
+        yield single.plain_room, (program,)
+    for call, papers, pair in ((single.judge_never_more, single.never_more_holds, (one, other)),
+                               (refining.judge_refines, refining.refines_holds, (one, other)),
+                               (refining.judge_alike, refining.alike_holds, (one, other)),
+                               (single.judge_mean, single.mean_holds, (held, item))):
+        yield call, pair
+        yield papers, (*pair, answer(call, *pair)[1])
+    yield refining.checks_of, (one, other)
+    yield refining.does_refine, (one, other)
 
 
 class Conventions(unittest.TestCase):
@@ -78,7 +131,7 @@ class Conventions(unittest.TestCase):
 
     def test_by_position_and_by_name(self):
         for call, given in calls():
-            named = dict(zip(PARAMETERS[inspect.getmodule(call)][call.__name__], given))
+            named = dict(zip(PARAMETERS[sys.modules[call.__module__]][call.__name__], given))
             self.assertEqual(answer(call, *given), answer(call, **named), call.__name__)
 
     def test_the_same_call_again(self):
@@ -101,7 +154,7 @@ class Conventions(unittest.TestCase):
         for call, given in calls():
             word, found = answer(call, *given)
             if word == "returned" and call.__name__ not in TELLING:
-                self.assertTrue(is_plain(found), (call.__name__, found))
+                self.assertTrue(is_plain(found, call.__name__ in WITH_BOOLS), (call.__name__, found))
 
     def test_things_of_any_kind_raise_nothing(self):
         for thing in ANY_VALUES:
@@ -112,23 +165,36 @@ class Conventions(unittest.TestCase):
                 self.assertIsInstance(walls.are_borders(width, thing), bool)
                 self.assertIsInstance(walls.follows_holds(width, (), (), (0,) * width, thing), bool)
                 self.assertIsInstance(walls.empty_holds(width, (), (), thing), bool)
+            for call, pair in ((single.never_more_holds, (SUM, SUM)), (single.mean_holds, ((((1,), 1),), ((1,), 1))),
+                               (refining.refines_holds, (SUM, SUM)), (refining.alike_holds, (SUM, SUM))):
+                self.assertIsInstance(call(*pair, thing), bool)
 
     def test_errors_carry_the_very_value(self):
         thing = [1, {"a": [2]}]
         for error, call, given in ((BadNumber, walls.is_roomy, (thing, ())),
-                                   (BadFacts, programs.made_program, ((("a", ("up", 1)),), thing, (), ("a",)))):
+                                   (BadFacts, programs.made_program, ((("a", ("up", 1)),), thing, (), ("a",))),
+                                   (BadProgram, ways.ways_of, (thing,)), (BadBound, runs.run, (SUM, thing, ())),
+                                   (BadGiven, ways.way_taken, (SUM, 1, thing)),
+                                   (BadNumber, ways.room_borders, (SUM, thing)),
+                                   (BadProgram, refining.judge_alike, (SUM, thing)),
+                                   (BadForms, single.judge_mean, (thing, ())),
+                                   (BadForms, single.judge_mean, ((((1,), 1),), thing))):
             with self.assertRaises(error) as found:
                 call(*given)
             self.assertIs(found.exception.thing, thing)
         with self.assertRaises(BadText) as found:
             texts.read_program(thing)
         self.assertEqual(found.exception.at, 0)
+        other = (*SUM[:3], ("c", "c"))
+        with self.assertRaises(Unlike) as found:
+            refining.checks_of(SUM, other)
+        self.assertIs(found.exception.thing, other)
 
 
-def is_plain(thing):
+def is_plain(thing, bools=False):
     if type(thing) is tuple:
-        return all(is_plain(item) for item in thing)
-    return type(thing) in (int, str)
+        return all(is_plain(item, bools) for item in thing)
+    return type(thing) in (int, str) or bools and type(thing) is bool
 
 
 if __name__ == "__main__":

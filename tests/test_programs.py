@@ -3,11 +3,10 @@
 import random
 import unittest
 
-from support import ANY_VALUES, Maker
+from support import ANY_VALUES, Maker, caught
 from tripmeans import programs as module
 from tripmeans import texts
-from tripmeans.errors import (BadBody, BadFacts, BadIns, BadKind, BadNumber, BadOuts, BadProgram, BadStatement,
-                              TripError)
+from tripmeans.errors import BadBody, BadFacts, BadIns, BadKind, BadNumber, BadOuts, BadProgram, BadStatement
 from tripmeans.programs import (is_kind, is_kind_within, is_name, is_program, is_straight, known_at, known_behind,
                                 made_program, statement_at, statement_count)
 
@@ -17,16 +16,6 @@ P = (INS, (), (("plus", "s", K, "a", "b"), ("minus", "r", K, "s", "c")), ("r",))
 PLUS = ("plus", "m", K2, "a", "b")
 TIMES = ("times", "m", K2, 2, "a")
 WORDS = ("plus", "minus", "least", "greatest")
-
-
-def caught(error, call, *given):
-    """The one value that the error of a call carries."""
-    try:
-        call(*given)
-    except TripError as e:
-        assert type(e) is error, e
-        return list(vars(e).values())[0]
-    raise AssertionError(f"no {error.__name__}")
 
 
 def numbered(many):

@@ -50,6 +50,11 @@ def bound_border(width):
 def judge_follows(width, walls, stricts, wall):
     """A paper that a wall follows, or a point at which it does not."""
     demand_question(width, walls, stricts, wall)
+    return found_follows(width, walls, stricts, wall)
+
+
+def found_follows(width, walls, stricts, wall):
+    """The same for what is known to be as it should be, however many walls and stricts there are."""
     against = tuple([-x for x in wall])
     found = judge_signs(width, walls, (*stricts, bound_border(width), against))
     if found[0] == "point":
@@ -65,7 +70,14 @@ def follows_holds(width, walls, stricts, wall, thing):
         return value_at(wall, thing[1]) < 0
     if not isinstance(thing, tuple) or len(thing) != 5 or thing[0] != "weights":
         return False
-    m, ws, ss, b = thing[1:]
+    return is_follow_paper(width, walls, stricts, wall, thing[1:])
+
+
+def is_follow_paper(width, walls, stricts, wall, thing):
+    """Whether any value is the items (m, ws, ss, b) of a right paper that a wall follows."""
+    if not isinstance(thing, tuple) or len(thing) != 4:
+        return False
+    m, ws, ss, b = thing
     if not are_weights((m, b), 2) or not are_right_weights(walls, stricts, ws, ss, m + b):
         return False
     return weighted_sum(width, walls, stricts, ws, ss, b) == [m * x for x in wall]
