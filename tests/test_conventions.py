@@ -7,7 +7,7 @@ import sys
 import unittest
 
 from support import ANY_VALUES, Maker, question
-from tripmeans import programs, refining, runs, single, texts, walls, ways
+from tripmeans import brackets, free, kinds, passes, programs, refining, runs, single, texts, walls, ways
 from tripmeans.errors import (BadBound, BadFacts, BadForms, BadGiven, BadNumber, BadProgram, BadText, TripError,
                               Unlike)
 from words import changed_program
@@ -42,11 +42,29 @@ PARAMETERS = {
         "refines_holds": ["one", "other", "thing"], "judge_alike": ["one", "other"],
         "alike_holds": ["one", "other", "thing"],
     },
+    kinds: {
+        "least_kinds": ["program"], "fitted": ["program"], "judge_kind": ["program", "number", "kind"],
+        "kind_holds": ["program", "number", "kind", "thing"], "judge_never": ["program"],
+        "never_holds": ["program", "thing"], "needless_registers": ["program"],
+    },
+    free: {
+        "need_borders": ["wanted", "k"], "free_forms": ["wanted", "k"], "judge_free": ["wanted", "k"],
+        "free_holds": ["wanted", "k", "thing"],
+    },
+    brackets: {
+        "is_tree": ["n", "thing"], "lots_of": ["n", "tree"], "plain_tree": ["n", "tree"], "all_trees": ["n"],
+        "judge_trees": ["items", "one", "other"], "trees_hold": ["items", "one", "other", "thing"],
+        "tree_program": ["items", "tree"], "best_trees": ["items"],
+    },
+    passes: {
+        "does_go": ["program", "step"], "passed": ["program", "step"], "passes_at": ["program", "number"],
+        "tidied": ["program"],
+    },
 }
 # Names of all functions that tell whether something is so.
 TELLING = ("are_borders", "is_border", "follows_holds", "does_follow", "empty_holds", "is_roomy", "is_kind", "is_name",
            "is_program", "is_kind_within", "is_straight", "is_single", "never_more_holds", "mean_holds", "does_refine",
-           "refines_holds", "alike_holds")
+           "refines_holds", "alike_holds", "kind_holds", "never_holds", "free_holds", "is_tree", "trees_hold", "does_go")
 # Names of those whose results hold bools, and not only integers, strings and tuples.
 WITH_BOOLS = ("ways_of",)
 SUM = ((("a", ("both", 1)), ("b", ("up", 2))), (), (("plus", "c", ("both", 2), "a", "b"),), ("c",))
@@ -86,6 +104,8 @@ def calls():
         if k % 4 == 0:
             small = Maker(k, wide=3, far=2, ins=3, most=5).program()
             yield from calls_of_programs(rand, small, changed_program(rand, small))
+            yield from calls_of_one(rand, small)
+            yield from calls_of_sums(rand)
     for module, functions in PARAMETERS.items():
         for name, parameters in functions.items():
             for thing in ANY_VALUES:
@@ -119,6 +139,39 @@ def calls_of_programs(rand, one, other):
         yield papers, (*pair, answer(call, *pair)[1])
     yield refining.checks_of, (one, other)
     yield refining.does_refine, (one, other)
+
+
+def calls_of_one(rand, program):
+    """Functions with one program."""
+    number, kind = rand.randint(0, 2), (rand.choice(("both", "up")), rand.randint(1, 4))
+    for call in (kinds.least_kinds, kinds.fitted, kinds.judge_never, kinds.needless_registers, passes.tidied):
+        yield call, (program,)
+    yield kinds.judge_kind, (program, number, kind)
+    yield kinds.kind_holds, (program, number, kind, answer(kinds.judge_kind, program, number, kind)[1])
+    yield kinds.never_holds, (program, kinds.judge_never(program))
+    yield passes.passes_at, (program, number)
+    for step in ((rand.choice(("share", "drop", "swap", "merge")), number), ("widen", number, kind)):
+        yield passes.does_go, (program, step)
+        yield passes.passed, (program, step)
+
+
+def calls_of_sums(rand):
+    """Functions about wanted sums and trees."""
+    n = rand.randint(2, 4)
+    ins = tuple((name, (rand.choice(("both", "up")), 1)) for name in "abcd"[:n])
+    wanted = (ins, (), ((tuple(rand.randint(-1, 2) for _ in ins), ("both", rand.randint(1, 2))),))
+    for call in (free.need_borders, free.free_forms, free.judge_free):
+        yield call, (wanted, 1)
+    yield free.free_holds, (wanted, 1, answer(free.judge_free, wanted, 1)[1])
+    one, other = rand.choice(brackets.all_trees(n)), rand.choice(brackets.all_trees(n))
+    items = tuple(rand.choice((-1, 0, 1)) for _ in ins)
+    for call in (brackets.is_tree, brackets.lots_of, brackets.plain_tree):
+        yield call, (n, one[::-1])
+    yield brackets.all_trees, (n,)
+    yield brackets.judge_trees, (items, one, other)
+    yield brackets.trees_hold, (items, one, other, brackets.judge_trees(items, one, other))
+    yield brackets.tree_program, (items, one)
+    yield brackets.best_trees, (items,)
 
 
 class Conventions(unittest.TestCase):

@@ -1,13 +1,14 @@
 """The rules of LANGUAGE.md that can be seen in a file at once: sizes, characters, imports, names."""
 
 import ast
+import builtins
 import pathlib
 import re
 import unittest
 
 PACKAGE = pathlib.Path(__file__).resolve().parent.parent / "tripmeans"
 FILES = sorted(PACKAGE.glob("*.py"))
-LIBRARY = {"heapq": {"heappush", "heappop"}, "math": {"gcd", "lcm"}, "itertools": {"product", "combinations"}}
+LIBRARY = {"heapq": {"heappush", "heappop"}, "math": {"gcd", "lcm"}, "itertools": {"combinations", "permutations"}}
 BARRED = {"register", "mro", "elements", "open", "input", "law", "eval", "exec", "id", "type", "vars", "dir", "map",
           "filter", "hash", "round", "object", "format", "next", "iter", "slice", "float", "chr", "compile", "sys"}
 
@@ -70,6 +71,26 @@ class Language(unittest.TestCase):
                 if isinstance(node, (ast.Name, ast.Attribute, ast.arg, ast.FunctionDef)):
                     word = getattr(node, "id", None) or getattr(node, "attr", None) or getattr(node, "arg", None)
                     self.assertNotIn(word or node.name, BARRED, name)
+
+    def test_no_name_means_something_else(self):
+        for name, _, tree in self.each():
+            taken = {alias.name for node in ast.walk(tree) if isinstance(node, ast.ImportFrom) for alias in node.names}
+            taken |= {node.name for node in ast.walk(tree) if isinstance(node, ast.ClassDef)}
+            bound = [node.id for node in ast.walk(tree) if isinstance(node, ast.Name) and isinstance(node.ctx, ast.Store)]
+            bound += [node.arg for node in ast.walk(tree) if isinstance(node, ast.arg)]
+            self.assertEqual(taken & set(bound), set(), name)
+            bound += [node.name for node in tree.body if isinstance(node, (ast.FunctionDef, ast.ClassDef))]
+            self.assertEqual(set(dir(builtins)) & (taken | set(bound)), set(), name)
+
+    def test_no_name_is_a_method_and_an_attribute(self):
+        methods, attributes = set(), set()
+        for _, _, tree in self.each():
+            for node in ast.walk(tree):
+                if isinstance(node, ast.ClassDef):
+                    methods |= {item.name for item in node.body if isinstance(item, ast.FunctionDef)}
+                if isinstance(node, ast.Attribute) and isinstance(node.ctx, ast.Store):
+                    attributes.add(node.attr)
+        self.assertEqual(methods & attributes, set())
 
     def test_every_function_says_what_it_does(self):
         for name, _, tree in self.each():
