@@ -5,7 +5,7 @@ import itertools
 from support import is_whole, total
 from tripmeans.programs import is_program
 from words import (RECKONED, are_papers, came_to, ends, is_admitted, is_in, is_worded, minus, numbered, starting,
-                   two, ways)
+                   two, walked, ways)
 
 
 def width_of(program):
@@ -176,3 +176,198 @@ def is_tree_paper(items, one, other, thing):
 
 def tree_trips(items, tree, bound, inputs):
     return any(total(wall, (*inputs, bound)) < 0 for wall in lot_walls(items, tree))
+
+
+def states_of(rounds):
+    return rounds[0][0][:rounds[1]]
+
+
+def items_of(rounds):
+    return rounds[0][0][rounds[1]:]
+
+
+def done(rounds, bound, inputs):
+    """The next states behind a round; None if it trips [10.1]."""
+    found = walked(rounds[0], bound, inputs)[1]
+    if found[0] == "trips":
+        return None
+    fit = all(does_fit(kind, bound, x) for (_, kind), x in zip(states_of(rounds), found[1]))
+    return found[1] if fit else None
+
+
+def keep(walls, states, bound):
+    return all(total(wall, (*states, bound)) >= 0 for wall in walls)
+
+
+def spread(wall, places, width):
+    """A wall, or a form, whose items but those behind are put at some places."""
+    found = [0] * width
+    for place, x in zip(places, wall):
+        found[place] = x
+    return tuple(found) + tuple(wall[len(places):])
+
+
+def led(wall, outs):
+    """The sum of the items of a wall times the forms of outs, with its last item [10.2]."""
+    return tuple(sum(x * out[at] for x, out in zip(wall, outs)) for at in range(len(outs[0]))) + wall[-1:]
+
+
+def round_checks(walls, stricts, entries, outs, kinds, more):
+    found = []
+    for entry in entries:
+        if entry[0] == "meets" and entry[2]:
+            stricts += (entry[1],)
+        elif entry[0] == "meets":
+            walls += (entry[1],)
+        else:
+            found += [(walls, stricts, wall) for wall in two(entry[2], entry[3])]
+    for form, kind in zip(outs, kinds):
+        found += [(walls, stricts, wall) for wall in two(form, kind)]
+    return found + [(walls, stricts, wall) for wall in more]
+
+
+def kept_checks(rounds, bounds):
+    """The checks of [10.2]."""
+    body, s = rounds
+    n = len(body[0])
+    walls = tuple(starting(body)) + tuple(spread(wall, range(s), n) for wall in bounds)
+    kinds = [kind for _, kind in body[0][:s]]
+    found = []
+    for entries, outs in ways(body):
+        found += round_checks(walls, (), entries, outs, kinds, [led(wall, outs) for wall in bounds])
+    return found
+
+
+def is_kept_paper(rounds, bounds, thing):
+    """A paper of [10.2]."""
+    body, s = rounds
+    if is_worded(thing, "kept", 2):
+        return are_papers(width_of(body), kept_checks(rounds, bounds), thing[1])
+    if not is_worded(thing, "lost", 3) or not is_admitted(body, *thing[1:]):
+        return False
+    _, bound, inputs = thing
+    if not keep(bounds, inputs[:s], bound):
+        return False
+    outs = done(rounds, bound, inputs)
+    return outs is None or not keep(bounds, outs, bound)
+
+
+def coupled_checks(one, other, couplings):
+    """The checks of [10.3]."""
+    s, t, m = one[1], other[1], len(items_of(one))
+    n = s + t + m
+    near, far = [*range(s), *range(s + t, n)], list(range(s, n))
+    kinds = [kind for _, kind in (*states_of(one), *states_of(other), *items_of(one))]
+    start = []
+    for k, kind in enumerate(kinds):
+        start += two([int(k == at) for at in range(n)], kind)
+    names = [name for name, _ in items_of(one)]
+    for small, large in one[0][1]:
+        wall = [0] * (n + 1)
+        wall[s + t + names.index(large)] += 1
+        wall[s + t + names.index(small)] -= 1
+        start.append(tuple(wall))
+    start += [spread(wall, range(s + t), n) for wall in couplings]
+    found = []
+    for entries, outs in ways(one[0]):
+        walls, stricts = tuple(start), ()
+        outs = [spread(out, near, n) for out in outs]
+        for entry in moved(entries, near, n):
+            if entry[0] == "value":
+                walls += tuple(two(entry[2], entry[3]))
+            elif entry[2]:
+                stricts += (entry[1],)
+            else:
+                walls += (entry[1],)
+        for out, kind in zip(outs, kinds[:s]):
+            walls += tuple(two(out, kind))
+        for far_entries, far_outs in ways(other[0]):
+            far_outs = [spread(out, far, n) for out in far_outs]
+            found += round_checks(walls, stricts, moved(far_entries, far, n), far_outs, kinds[s:s + t],
+                                  [led(wall, [*outs, *far_outs]) for wall in couplings])
+    return found
+
+
+def moved(entries, places, width):
+    """The entries of a way over more inputs."""
+    return [(*entry[:2], spread(entry[2], places, width), entry[3]) if entry[0] == "value"
+            else (entry[0], spread(entry[1], places, width), entry[2]) for entry in entries]
+
+
+def coupled_inputs(one, other, inputs):
+    """The inputs of either body."""
+    s, t = one[1], other[1]
+    return (*inputs[:s], *inputs[s + t:]), tuple(inputs[s:])
+
+
+def is_coupled_paper(one, other, couplings, thing):
+    """A paper of [10.3]."""
+    s, t = one[1], other[1]
+    n = len(one[0][0]) + t
+    if is_worded(thing, "coupled", 2):
+        return are_papers(n + 1, coupled_checks(one, other, couplings), thing[1])
+    if not is_worded(thing, "lost", 3) or type(thing[2]) is not tuple or len(thing[2]) != n:
+        return False
+    return is_lost(one, other, couplings, thing[1], thing[2])
+
+
+def is_lost(one, other, couplings, bound, inputs):
+    s, t = one[1], other[1]
+    near, far = coupled_inputs(one, other, inputs)
+    if not is_admitted(one[0], bound, near) or not is_admitted(other[0], bound, far):
+        return False
+    if not keep(couplings, inputs[:s + t], bound):
+        return False
+    outs, far_outs = done(one, bound, near), done(other, bound, far)
+    if outs is None:
+        return False
+    return far_outs is None or not keep(couplings, (*outs, *far_outs), bound)
+
+
+def trip_checks(program, number):
+    """What the papers "never" of [11.1] are for."""
+    found = []
+    for entries, _ in ways(program):
+        walls, stricts = tuple(starting(program)), ()
+        for entry in entries:
+            if entry[0] == "meets" and entry[2]:
+                stricts += (entry[1],)
+            elif entry[0] == "meets":
+                walls += (entry[1],)
+            else:
+                if entry[1] == number:
+                    found += [(walls, stricts, wall) for wall in two(entry[2], entry[3])]
+                walls += tuple(two(entry[2], entry[3]))
+    return found
+
+
+def is_trip_paper(program, number, thing):
+    """A paper of [11.1]."""
+    if is_worded(thing, "never", 2):
+        return are_papers(width_of(program), trip_checks(program, number), thing[1])
+    return is_worded(thing, "trips", 3) and (came_to(program, *thing[1:]) or ("", None))[:2] == ("trips", number)
+
+
+def apart(one, other, bound, given):
+    """Whether two programs part at admitted inputs [11.3]."""
+    near, far = walked(one, bound, given)[1], walked(other, bound, given)[1]
+    return near != far and not near[0] == far[0] == "trips"
+
+
+def is_bench_fault(programs, promise, thing):
+    """A fault of a promise that is not kept [12.2]."""
+    if promise[0] == "straight":
+        first = [number for number, item, _ in numbered(programs[promise[1]][2], itertools.count()) if item[0] == "if"][:1]
+        return is_worded(thing, "if", 2) and is_whole(thing[1]) and [thing[1]] == first
+    if promise[0] == "never trips":
+        return is_worded(thing, "trips", 3) and (came_to(programs[promise[1]], *thing[1:]) or ("",))[0] == "trips"
+    one, other = programs[promise[1]], programs[promise[2]]
+    if one[:2] != other[:2] or len(one[3]) != len(other[3]):
+        return is_worded(thing, "unlike", 1)
+    word = {"refines": "parts", "alike": "apart"}[promise[0]]
+    if not is_worded(thing, word, 3) or not is_admitted(one, *thing[1:]):
+        return False
+    if word == "parts":
+        near = came_to(other, *thing[1:])
+        return near[0] == "ends" and near != came_to(one, *thing[1:])
+    return apart(one, other, *thing[1:])

@@ -2,7 +2,11 @@
 
 import random
 
+from tripmeans.bench import Bench
 from tripmeans.errors import TripError
+
+# Benches are any values, too, by themselves and within others.
+BENCH = Bench.read("bench\nprogram p\nin a both 1\nout a\nstraight p")
 
 # One value of each sort that the document calls "any value", and some that are nearly something.
 ANY_VALUES = (
@@ -10,6 +14,8 @@ ANY_VALUES = (
     (), ((),), (None,), (True, 1), (1, True), (1, 2), ("both", 1), ("a", ("both", 1)), ("point",), ("point", ()),
     ("weights", 1, (), (), 1), ("none", (), (), 1), ("if", "a", "b", (), ()), ((((((((((),),),),),),),),),),
     [], [1, 2], [(1, 2)], ["both", 1], {}, {"a": 1}, {1: (2, 3)}, ([],), ({},), ([1], {2: 3}, "a", None), (0,) * 3000,
+    BENCH, Bench(), (BENCH,), [BENCH], {"p": BENCH}, (BENCH, 1), ("both", BENCH), (BENCH, ()), ("point", BENCH),
+    (BENCH, BENCH, BENCH), (BENCH, (), (), ("a",)), ("trips", 1, (BENCH,)), (("a", BENCH),), ([BENCH], {}, ({},), []),
 )
 
 
@@ -100,9 +106,9 @@ def changed_once(thing):
             for other in changed_once(item):
                 yield thing[:k] + (other,) + thing[k + 1:]
     elif is_whole(thing):
-        yield from (thing + 1, thing - 1, -thing, 2 * thing, thing == 1, str(thing), None, [thing], (thing,))
+        yield from (thing + 1, thing - 1, -thing, 2 * thing, thing == 1, str(thing), None, [thing], (thing,), BENCH)
     else:
-        yield from (None, "", "point", "weights", "none", ["point"], ("point",), 0)
+        yield from (None, "", "point", "weights", "none", ["point"], ("point",), 0, {}, BENCH)
 
 
 def row(rand, width, far):

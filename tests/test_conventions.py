@@ -6,8 +6,10 @@ import random
 import sys
 import unittest
 
+import support
 from support import ANY_VALUES, Maker, question
-from tripmeans import brackets, free, kinds, passes, programs, refining, runs, single, texts, walls, ways
+from tripmeans import (bench, blame, brackets, free, kinds, passes, programs, refining, rounds, rules, runs, single,
+                       texts, walls, ways)
 from tripmeans.errors import (BadBound, BadFacts, BadForms, BadGiven, BadNumber, BadProgram, BadText, TripError,
                               Unlike)
 from words import changed_program
@@ -60,11 +62,31 @@ PARAMETERS = {
         "does_go": ["program", "step"], "passed": ["program", "step"], "passes_at": ["program", "number"],
         "tidied": ["program"],
     },
+    rules: {
+        "is_rule": ["thing"], "judge_rule": ["rule"], "rule_holds": ["rule", "thing"],
+        "match_at": ["program", "rule", "number"], "does_fit": ["program", "rule", "number"],
+        "done_at": ["program", "rule", "number"], "places_of": ["program", "rule"],
+    },
+    rounds: {
+        "are_rounds": ["thing"], "judge_kept": ["rounds", "bounds"], "kept_holds": ["rounds", "bounds", "thing"],
+        "judge_coupled": ["one", "other", "couplings"], "coupled_holds": ["one", "other", "couplings", "thing"],
+        "unrolled": ["rounds", "r"],
+    },
+    blame: {
+        "can_trip": ["program", "number"], "can_be_reached": ["program", "number"], "judge_trip": ["program", "number"],
+        "trip_holds": ["program", "number", "thing"], "tripping": ["program"], "never_trips": ["program"],
+        "parts_at": ["one", "other", "bound", "given"], "first_parting": ["one", "other", "most"],
+        "bounds_of_parting": ["one", "other", "most"],
+    },
 }
 # Names of all functions that tell whether something is so.
 TELLING = ("are_borders", "is_border", "follows_holds", "does_follow", "empty_holds", "is_roomy", "is_kind", "is_name",
            "is_program", "is_kind_within", "is_straight", "is_single", "never_more_holds", "mean_holds", "does_refine",
-           "refines_holds", "alike_holds", "kind_holds", "never_holds", "free_holds", "is_tree", "trees_hold", "does_go")
+           "refines_holds", "alike_holds", "kind_holds", "never_holds", "free_holds", "is_tree", "trees_hold", "does_go",
+           "is_rule", "rule_holds", "does_fit", "are_rounds", "kept_holds", "coupled_holds", "can_trip", "can_be_reached",
+           "trip_holds", "never_trips", "parts_at")
+# Names of those that return None for nothing found.
+WITH_NONE = ("match_at", "first_parting")
 # Names of those whose results hold bools, and not only integers, strings and tuples.
 WITH_BOOLS = ("ways_of",)
 SUM = ((("a", ("both", 1)), ("b", ("up", 2))), (), (("plus", "c", ("both", 2), "a", "b"),), ("c",))
@@ -106,6 +128,7 @@ def calls():
             yield from calls_of_programs(rand, small, changed_program(rand, small))
             yield from calls_of_one(rand, small)
             yield from calls_of_sums(rand)
+            yield from calls_of_rules(rand, small, changed_program(rand, small))
     for module, functions in PARAMETERS.items():
         for name, parameters in functions.items():
             for thing in ANY_VALUES:
@@ -153,6 +176,36 @@ def calls_of_one(rand, program):
     for step in ((rand.choice(("share", "drop", "swap", "merge")), number), ("widen", number, kind)):
         yield passes.does_go, (program, step)
         yield passes.passed, (program, step)
+
+
+def calls_of_rules(rand, one, other):
+    """Functions about rules, rounds and partings, with two programs that are nearly the same."""
+    number, bound = rand.randint(0, 2), rand.randint(1, 2)
+    given = tuple(rand.randint(0, bound) for _ in one[0])
+    rule = ((SUM[0], (), SUM[2], ("c",)), (SUM[0], (), (("plus", "c", ("both", 3), "b", "a"),), ("c",)))
+    for some in (rule, (one, other)):
+        yield rules.is_rule, (some,)
+        yield rules.judge_rule, (some,)
+        yield rules.rule_holds, (some, answer(rules.judge_rule, some)[1])
+        yield rules.places_of, (SUM, some)
+        for call in (rules.match_at, rules.does_fit, rules.done_at):
+            yield call, (SUM, some, rand.randint(0, 1))
+    near, far = ((*one[:3], one[3][:1]), 1), ((*other[:3], other[3][:1]), 1)
+    walls_of_two, walls_of_three = ((1, rand.randint(0, 1)),), ((1, -1, 0), (-1, 1, 0))
+    yield rounds.are_rounds, (near,)
+    yield rounds.judge_kept, (near, walls_of_two)
+    yield rounds.kept_holds, (near, walls_of_two, answer(rounds.judge_kept, near, walls_of_two)[1])
+    yield rounds.judge_coupled, (near, far, walls_of_three)
+    yield rounds.coupled_holds, (near, far, walls_of_three, answer(rounds.judge_coupled, near, far, walls_of_three)[1])
+    yield rounds.unrolled, (near, rand.randint(0, 3))
+    for call in (blame.can_trip, blame.can_be_reached, blame.judge_trip):
+        yield call, (one, number)
+    yield blame.trip_holds, (one, number, answer(blame.judge_trip, one, number)[1])
+    yield blame.tripping, (one,)
+    yield blame.never_trips, (one,)
+    yield blame.parts_at, (one, other, bound, given)
+    yield blame.first_parting, (one, other, bound)
+    yield blame.bounds_of_parting, (one, other, bound)
 
 
 def calls_of_sums(rand):
@@ -207,11 +260,12 @@ class Conventions(unittest.TestCase):
         for call, given in calls():
             word, found = answer(call, *given)
             if word == "returned" and call.__name__ not in TELLING:
-                self.assertTrue(is_plain(found, call.__name__ in WITH_BOOLS), (call.__name__, found))
+                plain = is_plain(found, call.__name__ in WITH_BOOLS)
+                self.assertTrue(plain or found is None and call.__name__ in WITH_NONE, (call.__name__, found))
 
     def test_things_of_any_kind_raise_nothing(self):
         for thing in ANY_VALUES:
-            for call in (programs.is_kind, programs.is_name, programs.is_program):
+            for call in (programs.is_kind, programs.is_name, programs.is_program, rules.is_rule, rounds.are_rounds):
                 self.assertIsInstance(call(thing), bool)
             for width in range(2, 9):
                 self.assertIsInstance(walls.is_border(width, thing), bool)
@@ -221,6 +275,28 @@ class Conventions(unittest.TestCase):
             for call, pair in ((single.never_more_holds, (SUM, SUM)), (single.mean_holds, ((((1,), 1),), ((1,), 1))),
                                (refining.refines_holds, (SUM, SUM)), (refining.alike_holds, (SUM, SUM))):
                 self.assertIsInstance(call(*pair, thing), bool)
+
+    def test_again_with_other_calls_between(self):
+        made = list(calls())[::7]
+        random.Random(42).shuffle(made)
+        found = [answer(call, *given) for call, given in made]
+        for (call, given), before in reversed(list(zip(made, found))):
+            self.assertEqual(answer(call, *given), before, call.__name__)
+
+    def test_benches_are_not_changed(self):
+        before = str(support.BENCH), support.BENCH.deals()
+        for call, given in calls():
+            answer(call, *given)
+        self.assertEqual((str(support.BENCH), support.BENCH.deals()), before)
+
+    def test_methods_of_benches_have_the_names_of_the_interface(self):
+        for name, parameters in {"copy": [], "labels": [], "program": ["label"], "promises": [], "deals": [],
+                                 "deal": ["edits"], "edit": ["change"], "undo": [], "redo": [],
+                                 "judged": ["promise"]}.items():
+            self.assertEqual(list(inspect.signature(getattr(bench.Bench, name)).parameters), ["self", *parameters])
+        self.assertEqual(list(inspect.signature(bench.Bench.read).parameters), ["text"])
+        self.assertEqual(list(inspect.signature(bench.Bench).parameters), [])
+        self.assertEqual(list(inspect.signature(bench.fault_holds).parameters), ["bench", "promise", "thing"])
 
     def test_errors_carry_the_very_value(self):
         thing = [1, {"a": [2]}]

@@ -37,6 +37,8 @@ class Language(unittest.TestCase):
         for name, text, _ in self.each():
             self.assertEqual([c for c in text if c != "\n" and not " " <= c <= "~"], [], name)
             self.assertIsNone(re.search(r"_wall|_WallAttr", text), name)
+            self.assertIsNone(re.search(r"\b_(pe|dcw|enum|cm|twin_re|lay|law|stub)_|\b_sre", text), name)
+            self.assertIsNone(re.search(r"\b_(cold|tuplegetter|outside|record|written_out|member_names)", text), name)
 
     def test_imports(self):
         for name, _, tree in self.each():
@@ -96,7 +98,7 @@ class Language(unittest.TestCase):
         for name, _, tree in self.each():
             self.assertIsNotNone(ast.get_docstring(tree), name)
             for node in ast.walk(tree):
-                if isinstance(node, (ast.FunctionDef, ast.ClassDef)) and node.name != "__init__":
+                if isinstance(node, (ast.FunctionDef, ast.ClassDef)) and not node.name.startswith("__"):
                     self.assertIsNotNone(ast.get_docstring(node), (name, node.name))
 
 

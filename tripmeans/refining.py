@@ -5,7 +5,7 @@ from tripmeans.integers import is_between
 from tripmeans.papers import are_follow_papers, judge_checks
 from tripmeans.programs import demand_program
 from tripmeans.runs import told_run
-from tripmeans.ways import all_ways, kind_borders, less, room_of
+from tripmeans.ways import all_ways, less, room_of, value_checks
 
 
 def demand_pair(one, other):
@@ -30,14 +30,7 @@ def checks_of(one, other):
 
 def way_checks(walls, stricts, outs, way):
     """The checks in the room of a way of the first program, with its outs, for a way of the second one."""
-    checks = []
-    for entry in way[0]:
-        if entry[0] == "value":
-            checks.extend([(walls, stricts, wall) for wall in kind_borders(entry[2], entry[3])])
-        elif entry[2]:
-            stricts = (*stricts, entry[1])
-        else:
-            walls = (*walls, entry[1])
+    checks, walls, stricts = value_checks(walls, stricts, way[0])
     for near, far in zip(outs, way[1]):
         checks.append((walls, stricts, (*less(near, far), 0)))
         checks.append((walls, stricts, (*less(far, near), 0)))

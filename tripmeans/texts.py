@@ -42,7 +42,7 @@ def giving_line(statement):
 
 
 class Reader:
-    """Lines and the place up to which they are read, with the number of statements that were read."""
+    """Lines and the place up to which they are read, with the number of statements of the program that is read."""
 
     def __init__(self, lines):
         self.lines = lines
@@ -80,6 +80,7 @@ def read_program(text):
 
 def read_parts(reader):
     """The program of the lines that are next, up to its line of outs."""
+    reader.many = 0
     ins = read_ins(reader)
     facts = read_facts(reader, ins)
     body, known = read_block(reader, ins, {}, "out")

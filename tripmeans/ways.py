@@ -153,7 +153,12 @@ def way_at(program, number):
 
 def room_of(program, entries):
     """The room walls of a way of a program with these entries."""
-    walls = list(start_borders(program))
+    return room_behind(start_borders(program), entries)
+
+
+def room_behind(start, entries):
+    """The walls and stricts of a room, with those of the entries of a way behind the walls that it starts with."""
+    walls = list(start)
     stricts = []
     for entry in entries:
         if entry[0] == "value":
@@ -163,6 +168,23 @@ def room_of(program, entries):
         else:
             walls.append(entry[1])
     return tuple(walls), tuple(stricts)
+
+
+def value_checks(walls, stricts, entries):
+    """The checks that all values of a way fit in a room, and the room with all that the way meets put behind.
+
+    For each value the entries "meets" ahead of it are put behind, those that are not strict behind the walls,
+    the strict ones behind the stricts.
+    """
+    checks = []
+    for entry in entries:
+        if entry[0] == "value":
+            checks.extend([(walls, stricts, wall) for wall in kind_borders(entry[2], entry[3])])
+        elif entry[2]:
+            stricts = (*stricts, entry[1])
+        else:
+            walls = (*walls, entry[1])
+    return checks, walls, stricts
 
 
 def start_borders(program):
