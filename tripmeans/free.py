@@ -53,7 +53,7 @@ class Fitter:
         self.answers = {}
         self.points = []
 
-    def does_fit(self, form):
+    def is_fitting(self, form):
         """Whether both walls of a form for registers ("both", k) follow from the need walls."""
         if form not in self.answers:
             self.answers[form] = self.is_within(form)
@@ -104,7 +104,7 @@ def found_forms(wanted, fitter):
         settled = found[:at + 1]
         for other in settled:
             for form, _ in made_of(settled[at], other):
-                if form not in known and fitter.does_fit(form):
+                if form not in known and fitter.is_fitting(form):
                     known[form] = True
                     found.append(form)
         at += 1
@@ -237,7 +237,7 @@ def is_free_program(wanted, fitter, thing):
     entries = entries_of(thing)
     if tuple([(form, kind) for _, _, form, kind in entries[many:]]) != outs:
         return False
-    return all([kind == ("both", fitter.k) and fitter.does_fit(form) for _, _, form, kind in entries[:many]])
+    return all([kind == ("both", fitter.k) and fitter.is_fitting(form) for _, _, form, kind in entries[:many]])
 
 
 def are_sums(body):
@@ -271,6 +271,6 @@ def is_closed(known, fitter):
     forms = list(known)
     for at, one in enumerate(forms):
         for other in forms[:at + 1]:
-            if any([form not in known and fitter.does_fit(form) for form, _ in made_of(one, other)]):
+            if any([form not in known and fitter.is_fitting(form) for form, _ in made_of(one, other)]):
                 return False
     return True
