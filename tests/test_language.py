@@ -50,6 +50,31 @@ class Language(unittest.TestCase):
                     inside = node.module.startswith("tripmeans.")
                     self.assertTrue(inside or names <= LIBRARY.get(node.module, set()), (name, node.module))
 
+    def test_imports_name_the_very_file(self):
+        defined = {}
+        for name, _, tree in self.each():
+            names = [node.name for node in tree.body if isinstance(node, (ast.FunctionDef, ast.ClassDef))]
+            names += [node.targets[0].id for node in tree.body if isinstance(node, ast.Assign)]
+            self.assertEqual(len(names), len(set(names)), name)
+            defined["tripmeans." + name[:-3]] = names
+        for name, _, tree in self.each():
+            for node in tree.body:
+                if isinstance(node, ast.ImportFrom) and node.module in defined:
+                    for alias in node.names:
+                        self.assertIn(alias.name, defined[node.module], name)
+
+    def test_only_what_may_stand_in_a_module(self):
+        for name, _, tree in self.each():
+            for node in tree.body:
+                self.assertIsInstance(node, (ast.Expr, ast.ImportFrom, ast.FunctionDef, ast.ClassDef, ast.Assign), name)
+                self.assertFalse(isinstance(node, ast.Assign) and any(isinstance(part, ast.Call) for part in ast.walk(node)))
+
+    def test_tries_catch_own_errors_alone(self):
+        for name, _, tree in self.each():
+            for node in ast.walk(tree):
+                if isinstance(node, ast.ExceptHandler):
+                    self.assertEqual(ast.unparse(node.type), "TripError", name)
+
     def test_no_two_files_import_each_other(self):
         needs = {}
         for name, _, tree in self.each():
@@ -66,6 +91,18 @@ class Language(unittest.TestCase):
             for node in ast.walk(tree):
                 self.assertNotIsInstance(node, barred, name)
                 self.assertFalse(isinstance(node, ast.Constant) and isinstance(node.value, (float, complex)), name)
+
+    def test_loops_do_not_change_what_they_go_over(self):
+        changing = ("append", "clear", "extend", "insert", "pop", "remove", "reverse", "setdefault", "update")
+        for name, _, tree in self.each():
+            for loop in ast.walk(tree):
+                if isinstance(loop, ast.For):
+                    over = {ast.unparse(part) for part in ast.walk(loop.iter) if isinstance(part, (ast.Name, ast.Attribute))}
+                    for node in [part for row in loop.body for part in ast.walk(row)]:
+                        if isinstance(node, ast.Subscript) and not isinstance(node.ctx, ast.Load):
+                            self.assertNotIn(ast.unparse(node.value), over, (name, loop.lineno))
+                        if isinstance(node, ast.Call) and isinstance(node.func, ast.Attribute) and node.func.attr in changing:
+                            self.assertNotIn(ast.unparse(node.func.value), over, (name, loop.lineno))
 
     def test_names(self):
         for name, _, tree in self.each():

@@ -3,6 +3,7 @@
 import random
 import unittest
 
+import text_passes
 from later_words import statements, width_of
 from support import ANY_VALUES, Maker, caught
 from tripmeans import passes as module
@@ -365,6 +366,22 @@ class ManyPrograms(Asked):
                         seen[step[0]] += 1
                         self.checked(program, step)
         self.assertGreater(min(seen.values()), 25, seen)
+
+    def test_as_on_the_lines_of_texts(self):
+        seen = {}
+        rand = random.Random(82)
+        for seed in range(300):
+            program = Twins(seed).program() if seed % 3 else Maker(seed, wide=2, far=2, ins=2, most=12).program()
+            for number in range(-1, statement_count(program) + 1):
+                kind = (rand.choice(("both", "up")), rand.randint(1, 3))
+                for step in (*[(word, number) for word in WORDS], ("widen", number, kind)):
+                    found = text_passes.done(program, step)
+                    seen[step[0], found is None] = seen.get((step[0], found is None), 0) + 1
+                    self.assertIs(does_go(program, step), found is not None, (program, step))
+                    if found is not None:
+                        self.assertEqual(passed(program, step), found)
+        self.assertEqual(len(seen), 14)
+        self.assertGreater(min(seen.values()), 10)
 
     def checked(self, program, step):
         result = passed(program, step)

@@ -1,5 +1,6 @@
 """Part 9: rules, their papers, where they fit and go, and what they leave."""
 
+import itertools
 import random
 import unittest
 
@@ -344,6 +345,39 @@ def hidden_in(rand, rule, seed):
     return (*program[:2], whole, (*program[3][:3], last))
 
 
+def tried(program, rule, number):
+    """All matches at a number, by trying all names that are known there for the inputs [9.4]."""
+    left = rule[0]
+    here = statements(program)[number:number + len(left[2])]
+    blocks = [program[2]] + [arm for item in statements(program) if item[0] == "if" for arm in item[3:]]
+    if not any(tuple(here) == block[k:k + len(here)] for block in blocks for k in range(len(block))):
+        return
+    if len(here) < len(left[2]) or any(item[0] == "if" for item in here):
+        return
+    known = dict(known_at(program, number))
+    behind = [name for item in statements(program)[number + len(here):]
+              for name in (item[1:3] if item[0] == "if" else (item[1], *item[3:]))] + list(program[3])
+    for names in itertools.product(sorted(known), repeat=len(left[0])):
+        match = {name: other for (name, _), other in zip(left[0], names)}
+        match.update({mine[1]: theirs[1] for mine, theirs in zip(left[2], here)})
+        same = all((mine[0], match[mine[1]], mine[2], *[match.get(x, x) for x in mine[3:]]) == theirs
+                   for mine, theirs in zip(left[2], here))
+        fit = all(is_kind_within(known[match[name]], kind) for name, kind in left[0])
+        facts = all(match[a] == match[b] or leads(program[1], match[a], match[b]) for a, b in left[1])
+        hidden = any(match[item[1]] in behind for item in left[2] if item[1] not in left[3])
+        if same and fit and facts and not hidden:
+            yield tuple(sorted(match.items()))
+
+
+def leads(facts, small, large):
+    """Whether a row of facts leads from one name to another one."""
+    rows = [[small, b] for a, b in facts if a == small]
+    for _ in facts:
+        rows += [[*row, b] for row in rows for a, b in facts if a == row[-1] and len(row) <= len(facts)]
+        rows = list({row[-1]: row for row in rows}.values())
+    return any(row[-1] == large for row in rows)
+
+
 class ManyPrograms(Asked):
     def test_right_rules_refine_wherever_they_are_done(self):
         rand = random.Random(83)
@@ -362,6 +396,7 @@ class ManyPrograms(Asked):
                 continue
             for number in range(statement_count(program)):
                 match = match_at(program, rule, number)
+                self.assertEqual([match] if match is not None else [], list(tried(program, rule, number)))
                 if match is None:
                     self.assertNotIn(number, places_of(program, rule))
                     continue

@@ -87,7 +87,8 @@ def all_trees(n):
     for item in range(1, n):
         trees = [more for tree in trees for more in trees_with(tree, item)]
     # Each tree has other lots than all others: so the trees themselves are never compared.
-    return tuple([tree for _, tree in sorted([(lots_of(n, tree), tree) for tree in trees])])
+    pairs = sorted([(lots_of(n, tree), tree) for tree in trees])
+    return tuple([pair[1] for pair in pairs])
 
 
 def trees_with(tree, item):

@@ -113,7 +113,7 @@ def found_forms(wanted, fitter):
 
 def is_made(known, form):
     """Whether a form is the sum or the difference of two of the forms that are the keys of a dict."""
-    return any([less(form, one) in known or less(one, form) in known for one in known])
+    return way_to_make(known, form) is not None
 
 
 def judge_free(wanted, k):
@@ -207,7 +207,7 @@ def free_program(wanted, k, steps):
 
 
 def way_to_make(known, form):
-    """The word and two of the forms that are the keys of a dict that make a form."""
+    """The word and two of the forms that are the keys of a dict that make a form; None if no two do."""
     for one in known:
         if less(form, one) in known:
             return ("plus", one, less(form, one))

@@ -66,7 +66,7 @@ class Parter:
         What is left of each can be had: with one input at any of it, others can be as low or high as that asks.
         """
         low, high = list(lows), list(highs)
-        for _ in low:
+        for _ in range(len(lows)):
             for small, large in self.facts:
                 low[large] = max(low[large], low[small])
                 high[small] = min(high[small], high[large])
