@@ -89,6 +89,8 @@ TELLING = ("are_borders", "is_border", "follows_holds", "does_follow", "empty_ho
 WITH_NONE = ("match_at", "first_parting")
 # Names of those whose results hold bools, and not only integers, strings and tuples.
 WITH_BOOLS = ("ways_of",)
+# Names of those that tell of any one value, and raise nothing.
+NEVER_RAISING = ("is_kind", "is_name", "is_program", "is_rule", "are_rounds")
 SUM = ((("a", ("both", 1)), ("b", ("up", 2))), (), (("plus", "c", ("both", 2), "a", "b"),), ("c",))
 
 
@@ -239,6 +241,15 @@ class Conventions(unittest.TestCase):
         for call, given in calls():
             named = dict(zip(PARAMETERS[sys.modules[call.__module__]][call.__name__], given))
             self.assertEqual(answer(call, *given), answer(call, **named), call.__name__)
+
+    def test_every_function_is_called_rightly_and_wrongly(self):
+        seen = {}
+        for call, given in calls():
+            seen.setdefault(call, set()).add(answer(call, *given)[0] == "returned")
+        for module, functions in PARAMETERS.items():
+            for name in functions:
+                raises = name not in NEVER_RAISING
+                self.assertEqual(seen[getattr(module, name)], {True, False} if raises else {True}, name)
 
     def test_the_same_call_again(self):
         for call, given in calls():

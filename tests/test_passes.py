@@ -9,7 +9,7 @@ from support import ANY_VALUES, Maker, caught
 from tripmeans import passes as module
 from tripmeans.errors import BadNumber, BadPass, BadProgram, NoPlace
 from tripmeans.passes import does_go, passed, passes_at, tidied
-from tripmeans.programs import is_program, statement_count
+from tripmeans.programs import is_kind_within, is_program, statement_count
 from tripmeans.refining import does_refine, judge_alike
 from words import all_given, do_part, ways
 
@@ -383,13 +383,20 @@ class ManyPrograms(Asked):
         self.assertEqual(len(seen), 14)
         self.assertGreater(min(seen.values()), 10)
 
+    def is_narrower(self, program, number):
+        """Whether all statements ahead that reckon the same have kinds that lie within the one's."""
+        items = statements(program)
+        word, _, kind, *right = items[number]
+        same = [item for item in items[:number] if item[0] == word and sorted(map(str, item[3:])) == sorted(map(str, right))]
+        return all(is_kind_within(item[2], kind) for item in same)
+
     def checked(self, program, step):
         result = passed(program, step)
         self.assertTrue(is_program(result))
         self.assertEqual(result[:2], program[:2])
         self.assertTrue(does_refine(program, result), (program, step))
         self.assertLess(width_of(program), 8)
-        if step[0] in ("swap", "hoist", "sink", "merge"):
+        if step[0] in ("swap", "hoist", "sink", "merge") or step[0] == "share" and self.is_narrower(program, step[1]):
             self.assertTrue(does_refine(result, program), (program, step))
         for given in all_given(program, 1):
             self.assertFalse(do_part(program, result, 1, given))
